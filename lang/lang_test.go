@@ -1,0 +1,79 @@
+package lang
+
+import (
+	"testing"
+
+	"belated/api"
+	"belated/scan"
+)
+
+// toy is a language that is none of the three: all that is said of it is in
+// its table.
+func toy() Language {
+	return Language{
+		Regs:    Registers{"q0", "q1", "q2", "q3", "q4", "q5", "q6", "q7"},
+		Letters: [4]string{"", "2", "4", "8"},
+		ImmMark: "#",
+		Rows: []Row{
+			{Name: "get*.now", Ins: api.Ins{Op: api.OpLoad, Acq: true}, Parts: []Part{Mem, Dst}},
+			{Name: "put*", Ins: api.Ins{Op: api.OpStore}, Parts: []Part{A, Mem}},
+			{Name: "op", Ins: api.Ins{Op: api.OpAlu, Fn: api.FnSub}, Parts: []Part{B, Dst, A}},
+			{Name: "op", Ins: api.Ins{Op: api.OpAlu, Fn: api.FnSub}, Parts: []Part{Imm, Dst, A}},
+			{Name: "go", Ins: api.Ins{Op: api.OpBranch}, Parts: []Part{Label, A}},
+			{Name: "wait", Ins: api.Ins{Op: api.OpIsb}},
+		},
+	}
+}
+
+func TestToy(t *testing.T) {
+	for text, want := range map[string]api.Ins{
+		"get.now [x],q7":     {Op: api.OpLoad, Dst: 7, A: -1, B: -1, Index: -1, Size: 1, Acq: true},
+		"get4.now [y+4],q0":  {Op: api.OpLoad, Dst: 0, A: -1, B: -1, Index: -1, Loc: 1, Off: 4, Size: 4, Acq: true},
+		"put q1,[z+3+q2]":    {Op: api.OpStore, Dst: -1, A: 1, B: -1, Index: 2, Loc: 2, Off: 3, Size: 1},
+		"put2 q1,[x+q0]":     {Op: api.OpStore, Dst: -1, A: 1, B: -1, Index: 0, Size: 2},
+		"put8 q0,[x]":        {Op: api.OpStore, Dst: -1, A: 0, B: -1, Index: -1, Size: 8},
+		"op q1,q2,q3":        {Op: api.OpAlu, Fn: api.FnSub, Dst: 2, A: 3, B: 1, Index: -1},
+		"op #-5,q2,q3":       {Op: api.OpAlu, Fn: api.FnSub, Dst: 2, A: 3, B: -1, Imm: -5, Index: -1},
+		"op #0,q2,q2":        {Op: api.OpAlu, Fn: api.FnSub, Dst: 2, A: 2, B: -1, Index: -1},
+		"go L,q6":            {Op: api.OpBranch, Dst: -1, A: 6, B: -1, Index: -1},
+		"wait":               {Op: api.OpIsb, Dst: -1, A: -1, B: -1, Index: -1},
+		"get8.now [z+q6],q6": {Op: api.OpLoad, Dst: 6, A: -1, B: -1, Index: 6, Loc: 2, Size: 8, Acq: true},
+	} {
+		ts, _, _ := scan.Tokens(text)
+		i, label, e, at := toy().Parse(ts...)
+		if i != want || (label == "L") != (i.Op == api.OpBranch) || e != api.OK || at != 0 {
+			t.Errorf("Parse of %q: %+v, %q, %d, %d, want %+v", text, i, label, e, at, want)
+		}
+		if got, e := toy().Print(want, "L"); got != text || e != api.OK {
+			t.Errorf("Print of %q: %q, %d", text, got, e)
+		}
+	}
+}
+
+func TestToyRefuses(t *testing.T) {
+	for _, x := range []struct {
+		text string
+		e    api.Errno
+		at   int
+	}{
+		{"", api.ErrEnd, 0}, {"get [x],q7", api.ErrWord, 0}, {"get1.now [x],q7", api.ErrWord, 0}, {"put* q1,[x]", api.ErrForm, 3}, {"put1 q1,[x]", api.ErrWord, 0},
+		{"op", api.ErrEnd, 2}, {"op q8", api.ErrWord, 3}, {"op $5", api.ErrForm, 3}, {"op 5", api.ErrForm, 3}, {"op #5,#5", api.ErrForm, 6}, {"op q1,q2", api.ErrEnd, 8}, {"op q1,q2,#3", api.ErrForm, 9},
+		{"get2.now [x+1],q0", api.ErrIns, 0}, {"go 5,q0", api.ErrForm, 3}, {"go L,q8", api.ErrWord, 5}, {"wait 1", api.ErrMore, 5},
+	} {
+		ts, _, _ := scan.Tokens(x.text)
+		if i, label, e, at := toy().Parse(ts...); i != (api.Ins{}) || label != "" || e != x.e || at != x.at {
+			t.Errorf("Parse of %q: %+v, %q, %d at %d, want %d at %d", x.text, i, label, e, at, x.e, x.at)
+		}
+	}
+	for _, i := range []api.Ins{
+		{Op: api.OpStore, Dst: -1, A: -1, B: -1, Index: -1, Size: 8},
+		{Op: api.OpStore, Dst: -1, A: -1, B: -1, Index: -1, Size: 8, Imm: 5},
+		{Op: api.OpLoad, Dst: 0, A: -1, B: -1, Index: -1, Size: 8},
+		{Op: api.OpAlu, Fn: api.FnAdd, Dst: 2, A: 3, B: 1, Index: -1},
+		{Op: api.OpConst, Dst: 2, A: -1, B: -1, Index: -1},
+	} {
+		if text, e := toy().Print(i, "L"); text != "" || e != api.ErrArch {
+			t.Errorf("Print of %+v: %q, %d", i, text, e)
+		}
+	}
+}
