@@ -25,6 +25,8 @@ const (
 	Imm                   // IMM
 	Mem                   // MEM: Loc, Off, Index; Size, which the name tells
 	Label                 // LABEL: To, where that is told
+	Pred                  // P: the accesses ahead of a fence
+	Succ                  // P: those behind it
 )
 
 // Row is a line of a language's table. Rows of one name have as many parts
@@ -42,7 +44,8 @@ type Registers [api.MaxRegs]string
 type Language struct {
 	Regs    Registers
 	Letters [4]string // of the sizes 1, 2, 4, 8
-	ImmMark string    // ahead of an IMM's NUM
+	ImmMark string    // ahead of an IMM's NUM; empty, if none is
+	Fences  [3]string // what a P may be: FenceR, FenceW, both
 	Rows    []Row
 }
 
@@ -109,6 +112,10 @@ func (row Row) with(i api.Ins) api.Ins {
 			j.Loc, j.Off, j.Index, j.Size = i.Loc, i.Off, i.Index, i.Size
 		case Label:
 			j.To = i.To
+		case Pred:
+			j.Pred = i.Pred
+		case Succ:
+			j.Succ = i.Succ
 		}
 	}
 	return j

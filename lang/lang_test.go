@@ -14,6 +14,7 @@ func toy() Language {
 		Regs:    Registers{"q0", "q1", "q2", "q3", "q4", "q5", "q6", "q7"},
 		Letters: [4]string{"", "2", "4", "8"},
 		ImmMark: "#",
+		Fences:  [3]string{"in", "out", "all"},
 		Rows: []Row{
 			{Name: "get*.now", Ins: api.Ins{Op: api.OpLoad, Acq: true}, Parts: []Part{Mem, Dst}},
 			{Name: "put*", Ins: api.Ins{Op: api.OpStore}, Parts: []Part{A, Mem}},
@@ -21,7 +22,52 @@ func toy() Language {
 			{Name: "op", Ins: api.Ins{Op: api.OpAlu, Fn: api.FnSub}, Parts: []Part{Imm, Dst, A}},
 			{Name: "go", Ins: api.Ins{Op: api.OpBranch}, Parts: []Part{Label, A}},
 			{Name: "wait", Ins: api.Ins{Op: api.OpIsb}},
+			{Name: "hold", Ins: api.Ins{Op: api.OpFence}, Parts: []Part{Succ, Pred}},
 		},
+	}
+}
+
+// unmarked is a language in which no mark is ahead of an IMM.
+func unmarked() Language {
+	return Language{
+		Regs:    toy().Regs,
+		Letters: toy().Letters,
+		Rows: []Row{
+			{Name: "op", Ins: api.Ins{Op: api.OpAlu, Fn: api.FnSub}, Parts: []Part{Dst, A, B}},
+			{Name: "op", Ins: api.Ins{Op: api.OpAlu, Fn: api.FnSub}, Parts: []Part{Dst, A, Imm}},
+			{Name: "put*", Ins: api.Ins{Op: api.OpStore}, Parts: []Part{Imm, Mem}},
+		},
+	}
+}
+
+func TestUnmarked(t *testing.T) {
+	for text, want := range map[string]api.Ins{
+		"op q1,q2,q3":  {Op: api.OpAlu, Fn: api.FnSub, Dst: 1, A: 2, B: 3, Index: -1},
+		"op q1,q2,0":   {Op: api.OpAlu, Fn: api.FnSub, Dst: 1, A: 2, B: -1, Index: -1},
+		"op q1,q2,-5":  {Op: api.OpAlu, Fn: api.FnSub, Dst: 1, A: 2, B: -1, Imm: -5, Index: -1},
+		"put2 7,[x+2]": {Op: api.OpStore, Dst: -1, A: -1, B: -1, Imm: 7, Index: -1, Off: 2, Size: 2},
+		"put -7,[x]":   {Op: api.OpStore, Dst: -1, A: -1, B: -1, Imm: -7, Index: -1, Size: 1},
+	} {
+		ts, _, _ := scan.Tokens(text)
+		if i, label, e, at := unmarked().Parse(ts...); i != want || label != "" || e != api.OK || at != 0 {
+			t.Errorf("Parse of %q: %+v, %q, %d, %d, want %+v", text, i, label, e, at, want)
+		}
+		if got, e := unmarked().Print(want, ""); got != text || e != api.OK {
+			t.Errorf("Print of %q: %q, %d", text, got, e)
+		}
+	}
+	for _, x := range []struct {
+		text string
+		e    api.Errno
+		at   int
+	}{
+		{"op q1,q2,", api.ErrEnd, 9}, {"op q1,q2,-", api.ErrEnd, 10}, {"op q1,q2,q8", api.ErrWord, 9}, {"op q1,q2,-q3", api.ErrForm, 10}, {"op q1,q2,--3", api.ErrForm, 10}, {"op q1,q2,#3", api.ErrForm, 9}, {"op q1,q2,+3", api.ErrForm, 9}, {"op q1,q2,[x]", api.ErrForm, 9},
+		{"put q1,[x]", api.ErrForm, 4}, {"put 5[x]", api.ErrForm, 5}, {"put - ,[x]", api.ErrForm, 6}, {"put 5,6", api.ErrForm, 6}, {"op q1,q2,5 6", api.ErrMore, 11},
+	} {
+		ts, _, _ := scan.Tokens(x.text)
+		if i, label, e, at := unmarked().Parse(ts...); i != (api.Ins{}) || label != "" || e != x.e || at != x.at {
+			t.Errorf("Parse of %q: %+v, %q, %d at %d, want %d at %d", x.text, i, label, e, at, x.e, x.at)
+		}
 	}
 }
 
@@ -37,6 +83,9 @@ func TestToy(t *testing.T) {
 		"op #0,q2,q2":        {Op: api.OpAlu, Fn: api.FnSub, Dst: 2, A: 2, B: -1, Index: -1},
 		"go L,q6":            {Op: api.OpBranch, Dst: -1, A: 6, B: -1, Index: -1},
 		"wait":               {Op: api.OpIsb, Dst: -1, A: -1, B: -1, Index: -1},
+		"hold out,in":        {Op: api.OpFence, Dst: -1, A: -1, B: -1, Index: -1, Pred: api.FenceR, Succ: api.FenceW},
+		"hold all,out":       {Op: api.OpFence, Dst: -1, A: -1, B: -1, Index: -1, Pred: api.FenceW, Succ: api.FenceR | api.FenceW},
+		"hold in,all":        {Op: api.OpFence, Dst: -1, A: -1, B: -1, Index: -1, Pred: api.FenceR | api.FenceW, Succ: api.FenceR},
 		"get8.now [z+q6],q6": {Op: api.OpLoad, Dst: 6, A: -1, B: -1, Index: 6, Loc: 2, Size: 8, Acq: true},
 	} {
 		ts, _, _ := scan.Tokens(text)
@@ -59,6 +108,7 @@ func TestToyRefuses(t *testing.T) {
 		{"", api.ErrEnd, 0}, {"get [x],q7", api.ErrWord, 0}, {"get1.now [x],q7", api.ErrWord, 0}, {"put* q1,[x]", api.ErrForm, 3}, {"put1 q1,[x]", api.ErrWord, 0},
 		{"op", api.ErrEnd, 2}, {"op q8", api.ErrWord, 3}, {"op $5", api.ErrForm, 3}, {"op 5", api.ErrForm, 3}, {"op #5,#5", api.ErrForm, 6}, {"op q1,q2", api.ErrEnd, 8}, {"op q1,q2,#3", api.ErrForm, 9},
 		{"get2.now [x+1],q0", api.ErrIns, 0}, {"go 5,q0", api.ErrForm, 3}, {"go L,q8", api.ErrWord, 5}, {"wait 1", api.ErrMore, 5},
+		{"hold", api.ErrEnd, 4}, {"hold in", api.ErrEnd, 7}, {"hold in,", api.ErrEnd, 8}, {"hold r,in", api.ErrWord, 5}, {"hold in,q1", api.ErrWord, 8}, {"hold 1,in", api.ErrForm, 5}, {"hold in,in,in", api.ErrMore, 10},
 	} {
 		ts, _, _ := scan.Tokens(x.text)
 		if i, label, e, at := toy().Parse(ts...); i != (api.Ins{}) || label != "" || e != x.e || at != x.at {

@@ -8,6 +8,8 @@ import (
 	"belated/uir"
 )
 
+const minus = "-" // ahead of a NUM below 0
+
 // reader goes through the words of an instruction. It keeps the first fault
 // and goes on: what it finds behind that is not told.
 type reader struct {
@@ -107,11 +109,24 @@ func (r *reader) beginning(rows []Row, k int) []Row {
 func (r *reader) begins(part Part, word api.Token) bool {
 	switch part {
 	case Imm:
-		return word.Kind == api.TokMark && word.Text == r.lang.ImmMark
+		return r.beginsImm(word)
 	case Mem:
-		return word.Kind == api.TokMark && word.Text == "["
+		return isMark(word, "[")
 	}
 	return word.Kind == api.TokName
+}
+
+// beginsImm tells whether an IMM may begin with a word: as a NUM may, if no
+// mark is ahead of that.
+func (r *reader) beginsImm(word api.Token) bool {
+	if r.lang.ImmMark != "" {
+		return isMark(word, r.lang.ImmMark)
+	}
+	return word.Kind == api.TokNumber || isMark(word, minus)
+}
+
+func isMark(word api.Token, text string) bool {
+	return word.Kind == api.TokMark && word.Text == text
 }
 
 func (r *reader) part(part Part) {
@@ -123,13 +138,23 @@ func (r *reader) part(part Part) {
 	case B:
 		r.ins.B = r.reg()
 	case Imm:
-		r.mark(r.lang.ImmMark)
-		r.ins.Imm = r.num()
+		r.ins.Imm = r.imm()
 	case Mem:
 		r.mem()
 	case Label:
 		r.label, _ = r.words.Name()
+	case Pred:
+		r.ins.Pred = r.fenced()
+	case Succ:
+		r.ins.Succ = r.fenced()
 	}
+}
+
+func (r *reader) imm() int {
+	if r.lang.ImmMark != "" {
+		r.mark(r.lang.ImmMark)
+	}
+	return r.num()
 }
 
 // mem reads a MEM. No number may stand behind the register.
@@ -157,7 +182,7 @@ func (r *reader) isNumber() bool {
 func (r *reader) num() int {
 	n, ok := r.words.Number()
 	if !ok {
-		r.words.Take("-")
+		r.words.Take(minus)
 		r.refuse(api.ErrForm)
 	}
 	return n
@@ -165,6 +190,11 @@ func (r *reader) num() int {
 
 func (r *reader) reg() int {
 	return r.known(r.lang.Regs[:]...)
+}
+
+// fenced reads a P. FenceR is 1, FenceW 2, both are 3.
+func (r *reader) fenced() int {
+	return r.known(r.lang.Fences[:]...) + 1
 }
 
 // mark asks for a mark.

@@ -58,6 +58,7 @@ func isName(text string) bool {
 	return e == api.OK && len(words) == 1 && words[0].Kind == api.TokName && words[0].Text == text
 }
 
+// operand is a part of a right instruction as text.
 func (l Language) operand(part Part, i api.Ins, label string) string {
 	if reg, ok := part.reg(i); ok {
 		return l.Regs.Name(reg)
@@ -67,6 +68,10 @@ func (l Language) operand(part Part, i api.Ins, label string) string {
 		return l.ImmMark + strconv.Itoa(i.Imm)
 	case Mem:
 		return l.mem(i)
+	case Pred:
+		return l.Fences[i.Pred-1]
+	case Succ:
+		return l.Fences[i.Succ-1]
 	}
 	return label
 }

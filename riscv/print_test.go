@@ -1,0 +1,344 @@
+package riscv_test
+
+import (
+	"math"
+	"strings"
+	"testing"
+
+	"belated/api"
+	"belated/riscv"
+	"belated/uir"
+)
+
+// 5.1, 6.1: the registers.
+func TestRegisters(t *testing.T) {
+	for n, name := range registerNames {
+		if riscv.Reg(name) != n || riscv.Name(n) != name {
+			t.Errorf("register %d is %q; %q is %d", n, riscv.Name(n), name, riscv.Reg(name))
+		}
+		for _, other := range []string{strings.ToUpper(name), name + " ", " " + name, name + "0", name[1:], name[:1], "x" + name[1:]} {
+			if riscv.Reg(other) != -1 {
+				t.Errorf("Reg(%q) = %d", other, riscv.Reg(other))
+			}
+		}
+	}
+	for _, name := range []string{"", " ", "a", "a8", "a9", "a-1", "a00", "a10", "t0", "s0", "zero", "RAX", "X0", "x0", "x", "0", "7", "a0,a1", "a0\x00"} {
+		if riscv.Reg(name) != -1 {
+			t.Errorf("Reg(%q) = %d", name, riscv.Reg(name))
+		}
+	}
+	for _, n := range []int{-1, 8, -8, 9, 256, math.MinInt, math.MaxInt, 1 << 32} {
+		if riscv.Name(n) != "" {
+			t.Errorf("Name(%d) = %q", n, riscv.Name(n))
+		}
+	}
+}
+
+// canonical is all texts, as Print writes them, of instructions with numbers
+// out of a few, by what they mean. It is made by the model's table.
+func canonical(imms []int) map[api.Ins]string {
+	texts := map[api.Ins]string{}
+	for _, l := range lines() {
+		fillSlots(l, strings.Fields(l.slots), l.name+" ", operands{index: -1}, imms, texts)
+	}
+	return texts
+}
+
+// fillSlots goes through all that may stand in the slots that are left.
+func fillSlots(l line, slots []string, done string, o operands, imms []int, texts map[api.Ins]string) {
+	if len(slots) == 0 {
+		texts[l.ins(o)] = done
+		return
+	}
+	next := func(text string, o operands) {
+		fillSlots(l, slots[1:], done+text, o, imms, texts)
+	}
+	switch slots[0] {
+	case "REG":
+		for n, name := range registerNames {
+			p := o
+			p.regs = append(o.regs[:len(o.regs):len(o.regs)], n)
+			next(name, p)
+		}
+	case "P":
+		for n, name := range fenceNames {
+			p := o
+			p.fences = append(o.fences[:len(o.fences):len(o.fences)], n+1)
+			next(name, p)
+		}
+	case "IMM":
+		for _, n := range imms {
+			o.imm = n
+			next(decimal(n), o)
+		}
+	case "MEM":
+		for text, p := range places(l.ins(o).Size, o) {
+			next(text, p)
+		}
+	case "LABEL":
+		next("L2", o)
+	default:
+		next(slots[0], o)
+	}
+}
+
+// places is all that an access of a size may be at.
+func places(size int, o operands) map[string]operands {
+	all := map[string]operands{}
+	for loc, name := range locationNames {
+		for off := 0; off < 8; off += size {
+			o.loc, o.off, o.index = loc, off, -1
+			text := "[" + name
+			if off > 0 {
+				text += "+" + decimal(off)
+			}
+			all[text+"]"] = o
+			for n, reg := range registerNames {
+				o.index = n
+				all[text+"+"+reg+"]"] = o
+			}
+		}
+	}
+	return all
+}
+
+// decimal is a number as R10 has it, digit by digit.
+func decimal(n int) string {
+	if n < 0 {
+		return "-" + digits(-uint64(n))
+	}
+	return digits(uint64(n))
+}
+
+func digits(n uint64) string {
+	if n < 10 {
+		return string(rune('0' + n))
+	}
+	return digits(n/10) + digits(n%10)
+}
+
+// candidates is instructions of each Op with fields out of a few: those that
+// RISC-V has, those that it has not, and those that may not be.
+func candidates(imms []int) []api.Ins {
+	var all []api.Ins
+	regs := []int{-1, 0, 1, 7, 8}
+	for _, imm := range imms {
+		for _, dst := range regs {
+			all = append(all, konst(dst, imm))
+			for _, a := range regs {
+				for _, b := range regs {
+					for fn := 0; fn <= 7; fn++ {
+						all = append(all, alu(fn, dst, a, b, imm))
+					}
+				}
+			}
+		}
+	}
+	for dst := -1; dst <= 8; dst++ {
+		for a := -1; a <= 8; a++ {
+			all = append(all, move(dst, a))
+		}
+		all = append(all, branch(dst, true), branch(dst, false))
+	}
+	for op := -1; op <= 10; op++ {
+		all = append(all, bare(op))
+	}
+	for pred := -1; pred <= 4; pred++ {
+		for succ := -1; succ <= 4; succ++ {
+			all = append(all, fence(pred, succ))
+		}
+	}
+	return append(all, accesses()...)
+}
+
+func accesses() []api.Ins {
+	var all []api.Ins
+	for _, size := range []int{0, 1, 2, 3, 4, 8, 16} {
+		for off := -1; off <= 8; off++ {
+			for _, index := range []int{-2, -1, 0, 7, 8} {
+				for _, reg := range []int{-1, 0, 1, 7, 8} {
+					loc := (off+size+6)%5 - 1
+					all = append(all, at(loc, off, index, size, load(reg)),
+						at(loc, off, index, size, store(reg, 0)), at(loc, off, index, size, store(reg, -5)))
+					for fn := 0; fn <= 7; fn++ {
+						all = append(all, at(loc, off, index, size, rmw(fn, reg, 0, false, false)), at(loc, off, index, size, rmw(fn, 1, reg, false, false)))
+					}
+				}
+			}
+		}
+	}
+	return all
+}
+
+// marked is i with each choice of the marks that an access may have.
+func marked(i api.Ins) []api.Ins {
+	var all []api.Ins
+	for n := range 8 {
+		j := i
+		j.Acq, j.Weak, j.Rel = n&1 > 0, n&2 > 0, n&4 > 0
+		all = append(all, j)
+	}
+	return all
+}
+
+// 5.3, 6.1: an instruction is printed just if it is right and the table has a
+// text of it; else it is refused by ErrIns, by ErrArch. 5.5: what is printed
+// is parsed as it was.
+func TestPrintOfEach(t *testing.T) {
+	imms := []int{0, 1, -1, -5, 10, 100, 1234567890, math.MaxInt, math.MinInt}
+	texts := canonical(imms)
+	for i, want := range texts {
+		printed(t, i, want, api.OK)
+	}
+	for _, i := range candidates(imms) {
+		for _, j := range marked(i) {
+			want, ok := texts[j]
+			switch {
+			case ok:
+				printed(t, j, want, api.OK)
+			case uir.Right(j, -1, 0) == api.ErrIns:
+				printed(t, j, "", api.ErrIns)
+			default:
+				printed(t, j, "", api.ErrArch)
+			}
+		}
+	}
+}
+
+func printed(t *testing.T, i api.Ins, want string, e api.Errno) {
+	t.Helper()
+	got, refused := riscv.Print(i, "L2")
+	if got != want || refused != e {
+		t.Errorf("Print of %+v: %q, %d, want %q, %d", i, got, refused, want, e)
+	}
+	if e != api.OK {
+		return
+	}
+	back := told{i: i}
+	if i.Op == api.OpBranch {
+		back.label = "L2"
+	}
+	if got := parse(words(t, want)...); got != back {
+		t.Errorf("Parse of %q: %+v, want %+v", want, got, back)
+	}
+}
+
+// 5.5: what was parsed is printed, and that is parsed as it was, however it
+// was written.
+func TestParsedIsPrinted(t *testing.T) {
+	for _, row := range texts("0", "0x4", "006") {
+		first := parse(words(t, strings.Join(row, " "))...)
+		if first.e != api.OK {
+			continue
+		}
+		text, e := riscv.Print(first.i, first.label)
+		if e != api.OK {
+			t.Errorf("Print of %+v, which is %q: %d", first.i, row, e)
+			continue
+		}
+		if again := parse(words(t, text)...); again != first {
+			t.Errorf("%q is printed as %q, and parsed as %+v, want %+v", row, text, again, first)
+		}
+	}
+}
+
+// 6.1: what RISC-V has none of, each by itself.
+func TestPrintOfOtherArchitectures(t *testing.T) {
+	turned := func(i api.Ins, set func(i *api.Ins)) api.Ins {
+		set(&i)
+		return i
+	}
+	for _, size := range []int{1, 2, 4, 8} {
+		ld, st := at(1, 0, -1, size, load(0)), at(2, 0, 3, size, store(0, 0))
+		for what, i := range map[string]api.Ins{
+			"a load with Acq":         turned(ld, func(i *api.Ins) { i.Acq = true }),
+			"a load with Weak":        turned(ld, func(i *api.Ins) { i.Weak = true }),
+			"a store with Rel":        turned(st, func(i *api.Ins) { i.Rel = true }),
+			"a store of an Imm":       turned(st, func(i *api.Ins) { i.A, i.Imm = -1, 1 }),
+			"a store of the Imm 0":    turned(st, func(i *api.Ins) { i.A = -1 }),
+			"a store of an Imm, Rel":  turned(st, func(i *api.Ins) { i.A, i.Imm, i.Rel = -1, 1, true }),
+			"a store of the Imm, Rel": turned(st, func(i *api.Ins) { i.A, i.Rel = -1, true }),
+			"an OpIsb":                bare(api.OpIsb),
+		} {
+			for _, label := range []string{"L", "", "L M"} {
+				if text, e := riscv.Print(i, label); text != "" || e != api.ErrArch {
+					t.Errorf("Print of %s, size %d: %q, %d", what, size, text, e)
+				}
+			}
+		}
+	}
+}
+
+// 5.3: a branch's label is one name, and nothing about it; of all other
+// instructions it is not asked.
+func TestLabels(t *testing.T) {
+	long := strings.Repeat("L", api.MaxText)
+	for _, label := range []string{"L", "L2", "_", "a.b", "_.", "a0", "beqz", "x", "rw", "exists", long} {
+		for _, to := range []int{0, 1, 8, -1, math.MaxInt, math.MinInt} {
+			i := branch(2, true)
+			i.To = to
+			if text, e := riscv.Print(i, label); text != "beqz a2,"+label || e != api.OK {
+				t.Errorf("Print of a branch to %d, label %.20q: %.20q, %d", to, label, text, e)
+			}
+		}
+		if label == long {
+			continue
+		}
+		if got := parse(words(t, "beqz a2,"+label)...); got != (told{i: branch(2, true), label: label}) {
+			t.Errorf("Parse of a branch, label %q: %+v", label, got)
+		}
+	}
+	for _, label := range []string{"", " ", "L M", " L", "L ", "L\n", "\tL", "(* a *)L", "L(* a *)", "(* L *)", "(* L", "5", "0x1", "2L", ".", ".L", "L:", "L,", "-", "[", "L@", "@", "L\x00", "é", "Lé", "L-1", long + "L"} {
+		for _, zero := range []bool{true, false} {
+			if text, e := riscv.Print(branch(0, zero), label); text != "" || e != api.ErrLabel {
+				t.Errorf("Print of a branch, label %.20q: %.20q, %d", label, text, e)
+			}
+			for _, none := range []int{-1, 8} {
+				if text, e := riscv.Print(branch(none, zero), label); text != "" || e != api.ErrIns {
+					t.Errorf("Print of a branch of no register, label %.20q: %q, %d", label, text, e)
+				}
+			}
+		}
+		if text, e := riscv.Print(fence(3, 1), label); text != "fence rw,r" || e != api.OK {
+			t.Errorf("Print of a fence, label %.20q: %q, %d", label, text, e)
+		}
+	}
+}
+
+// R6: numbers that are far from any that may be.
+func TestOddInstructions(t *testing.T) {
+	far := []int{math.MinInt, -1 << 32, -2, -1, 0, 1, 3, 4, 8, 9, 1 << 32, math.MaxInt}
+	d := dice(8)
+	one := func() int { return far[d.below(len(far))] }
+	for range 50000 {
+		i := api.Ins{Op: d.below(12) - 1, Dst: one(), A: one(), B: one(), Imm: one(), Loc: one(), Off: one(), Index: one(), Size: one(), Fn: one(), Pred: one(), Succ: one(), To: one()}
+		i.Acq, i.Weak, i.Rel, i.Zero = d.below(2) > 0, d.below(2) > 0, d.below(2) > 0, d.below(2) > 0
+		if text, e := riscv.Print(i, "L"); (text == "") != (e != api.OK) || uir.Right(i, -1, 0) == api.ErrIns && e != api.ErrIns {
+			t.Fatalf("Print of %+v: %q, %d", i, text, e)
+		}
+	}
+	for _, kind := range far {
+		for _, i := range []api.Ins{fence(kind, 1), fence(1, kind)} {
+			if text, e := riscv.Print(i, ""); (e == api.OK) != (kind == 1 || kind == 3) || e != api.OK && (e != api.ErrIns || text != "") {
+				t.Errorf("Print of %+v: %q, %d", i, text, e)
+			}
+		}
+	}
+}
+
+// The chapter's examples.
+func TestExamples(t *testing.T) {
+	for text, want := range map[string]told{
+		"ld a1,[x]":               {i: at(0, 0, -1, 8, load(1))},
+		"amoadd.w.aq a0,a1,[y+4]": {i: at(1, 4, -1, 4, rmw(api.FnAdd, 0, 1, true, false))},
+		"fence rw,w":              {i: fence(3, 2)},
+		"fence rw,x":              {e: api.ErrWord, at: 9},
+	} {
+		if got := parse(words(t, text)...); got != want {
+			t.Errorf("Parse of %q: %+v, want %+v", text, got, want)
+		}
+	}
+	if text, e := riscv.Print(at(0, 0, -1, 8, store(-1, 0)), ""); text != "" || e != api.ErrArch {
+		t.Errorf("Print of an OpStore with A -1: %q, %d", text, e)
+	}
+}
