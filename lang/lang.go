@@ -27,12 +27,14 @@ const (
 	Label                 // LABEL: To, where that is told
 	Pred                  // P: the accesses ahead of a fence
 	Succ                  // P: those behind it
+	Word                  // the row's own Word, which tells no field
 )
 
 // Row is a line of a language's table. Rows of one name have as many parts
 // each, and the first word of a part tells which of them go on.
 type Row struct {
 	Name  string  // `*` in it, if it has a Mem, stands for the letter of the Size
+	Word  string  // the name that stands where its Parts have Word: rows of one Name differ by it
 	Ins   api.Ins // the fields that no part tells; its registers do not count
 	Parts []Part
 }

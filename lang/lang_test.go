@@ -23,6 +23,8 @@ func toy() Language {
 			{Name: "go", Ins: api.Ins{Op: api.OpBranch}, Parts: []Part{Label, A}},
 			{Name: "wait", Ins: api.Ins{Op: api.OpIsb}},
 			{Name: "hold", Ins: api.Ins{Op: api.OpFence}, Parts: []Part{Succ, Pred}},
+			{Name: "leap", Word: "if", Ins: api.Ins{Op: api.OpBranch, Zero: true}, Parts: []Part{A, Word, Label}},
+			{Name: "leap", Word: "over", Ins: api.Ins{Op: api.OpMove}, Parts: []Part{A, Word, Dst}},
 		},
 	}
 }
@@ -87,6 +89,8 @@ func TestToy(t *testing.T) {
 		"hold all,out":       {Op: api.OpFence, Dst: -1, A: -1, B: -1, Index: -1, Pred: api.FenceW, Succ: api.FenceR | api.FenceW},
 		"hold in,all":        {Op: api.OpFence, Dst: -1, A: -1, B: -1, Index: -1, Pred: api.FenceR | api.FenceW, Succ: api.FenceR},
 		"get8.now [z+q6],q6": {Op: api.OpLoad, Dst: 6, A: -1, B: -1, Index: 6, Loc: 2, Size: 8, Acq: true},
+		"leap q3,if,L":       {Op: api.OpBranch, Dst: -1, A: 3, B: -1, Index: -1, Zero: true},
+		"leap q3,over,q4":    {Op: api.OpMove, Dst: 4, A: 3, B: -1, Index: -1},
 	} {
 		ts, _, _ := scan.Tokens(text)
 		i, label, e, at := toy().Parse(ts...)
@@ -109,6 +113,8 @@ func TestToyRefuses(t *testing.T) {
 		{"op", api.ErrEnd, 2}, {"op q8", api.ErrWord, 3}, {"op $5", api.ErrForm, 3}, {"op 5", api.ErrForm, 3}, {"op #5,#5", api.ErrForm, 6}, {"op q1,q2", api.ErrEnd, 8}, {"op q1,q2,#3", api.ErrForm, 9},
 		{"get2.now [x+1],q0", api.ErrIns, 0}, {"go 5,q0", api.ErrForm, 3}, {"go L,q8", api.ErrWord, 5}, {"wait 1", api.ErrMore, 5},
 		{"hold", api.ErrEnd, 4}, {"hold in", api.ErrEnd, 7}, {"hold in,", api.ErrEnd, 8}, {"hold r,in", api.ErrWord, 5}, {"hold in,q1", api.ErrWord, 8}, {"hold 1,in", api.ErrForm, 5}, {"hold in,in,in", api.ErrMore, 10},
+		{"leap q3,", api.ErrEnd, 8}, {"leap q3,q4", api.ErrWord, 8}, {"leap q3,IF,L", api.ErrWord, 8}, {"leap q3,ifs,L", api.ErrWord, 8}, {"leap q3,5,L", api.ErrForm, 8}, {"leap q3,[x],L", api.ErrForm, 8}, {"leap if,q3,L", api.ErrWord, 5},
+		{"leap q3,if", api.ErrEnd, 10}, {"leap q3,if L", api.ErrForm, 11}, {"leap q3,if,", api.ErrEnd, 11}, {"leap q3,if,5", api.ErrForm, 11}, {"leap q3,over,L", api.ErrWord, 13}, {"leap q3,over,q4,if", api.ErrMore, 15},
 	} {
 		ts, _, _ := scan.Tokens(x.text)
 		if i, label, e, at := toy().Parse(ts...); i != (api.Ins{}) || label != "" || e != x.e || at != x.at {

@@ -99,19 +99,32 @@ func (r *reader) named() []Row {
 // beginning is those of the rows whose part k may begin with the next word.
 func (r *reader) beginning(rows []Row, k int) []Row {
 	word, _ := r.words.Peek()
-	left := slices.DeleteFunc(rows, func(row Row) bool { return !r.begins(row.Parts[k], word) })
+	fault := misfit(rows, k, word)
+	left := slices.DeleteFunc(rows, func(row Row) bool { return !r.begins(row, k, word) })
 	if len(left) == 0 {
-		r.refuse(api.ErrForm)
+		r.refuse(fault)
 	}
 	return left
 }
 
-func (r *reader) begins(part Part, word api.Token) bool {
-	switch part {
+// misfit is the fault of a word with which part k of no row may begin: where a
+// row asks for its own Word, a name is one that is not known.
+func misfit(rows []Row, k int, word api.Token) api.Errno {
+	asked := slices.ContainsFunc(rows, func(row Row) bool { return row.Parts[k] == Word })
+	if asked && word.Kind == api.TokName {
+		return api.ErrWord
+	}
+	return api.ErrForm
+}
+
+func (r *reader) begins(row Row, k int, word api.Token) bool {
+	switch row.Parts[k] {
 	case Imm:
 		return r.beginsImm(word)
 	case Mem:
 		return isMark(word, "[")
+	case Word:
+		return word.Kind == api.TokName && word.Text == row.Word
 	}
 	return word.Kind == api.TokName
 }
@@ -147,6 +160,8 @@ func (r *reader) part(part Part) {
 		r.ins.Pred = r.fenced()
 	case Succ:
 		r.ins.Succ = r.fenced()
+	case Word:
+		r.words.Next()
 	}
 }
 

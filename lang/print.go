@@ -26,7 +26,7 @@ func (l Language) Print(i api.Ins, label string) (string, api.Errno) {
 	}
 	operands := make([]string, len(row.Parts))
 	for k, part := range row.Parts {
-		operands[k] = l.operand(part, i, label)
+		operands[k] = l.operand(row, part, i, label)
 	}
 	return name + " " + strings.Join(operands, ","), api.OK
 }
@@ -58,8 +58,8 @@ func isName(text string) bool {
 	return e == api.OK && len(words) == 1 && words[0].Kind == api.TokName && words[0].Text == text
 }
 
-// operand is a part of a right instruction as text.
-func (l Language) operand(part Part, i api.Ins, label string) string {
+// operand is a row's part of a right instruction as text.
+func (l Language) operand(row Row, part Part, i api.Ins, label string) string {
 	if reg, ok := part.reg(i); ok {
 		return l.Regs.Name(reg)
 	}
@@ -72,6 +72,8 @@ func (l Language) operand(part Part, i api.Ins, label string) string {
 		return l.Fences[i.Pred-1]
 	case Succ:
 		return l.Fences[i.Succ-1]
+	case Word:
+		return row.Word
 	}
 	return label
 }
