@@ -64,8 +64,8 @@ func (r Registers) Name(reg int) string {
 	return r[reg]
 }
 
-// locNames is the names of the locations, by number.
-func locNames() []string {
+// LocNames is the names of the locations, by number.
+func LocNames() []string {
 	return []string{"x", "y", "z"}
 }
 

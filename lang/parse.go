@@ -4,37 +4,32 @@ import (
 	"slices"
 
 	"belated/api"
-	"belated/scan"
+	"belated/ask"
 	"belated/uir"
 )
 
 const minus = "-" // ahead of a NUM below 0
 
-// reader goes through the words of an instruction. It keeps the first fault
-// and goes on: what it finds behind that is not told.
+// reader goes through the words of an instruction.
 type reader struct {
+	*ask.Reader
 	lang  Language
-	words *scan.Cursor
 	ins   api.Ins // what the name and the operands tell
 	label string
-	e     api.Errno
-	at    int
 }
 
 // Parse reads one instruction; the label that a branch names; where it goes
 // wrong.
 func (l Language) Parse(ts ...api.Token) (i api.Ins, label string, e api.Errno, at int) {
-	r := &reader{lang: l, words: scan.New(ts...)}
-	begin := r.words.At()
+	r := &reader{Reader: ask.New(ts...), lang: l}
+	begin := r.At()
 	i = r.instruction()
-	if r.words.Left() > 0 {
-		r.refuse(api.ErrMore)
+	r.End()
+	if e, at = r.Fault(); e != api.OK {
+		return api.Ins{}, "", e, at
 	}
-	if r.e == api.OK && isWrong(i) {
-		r.e, r.at = api.ErrIns, begin
-	}
-	if r.e != api.OK {
-		return api.Ins{}, "", r.e, r.at
+	if isWrong(i) {
+		return api.Ins{}, "", api.ErrIns, begin
 	}
 	return i, r.label, api.OK, 0
 }
@@ -45,24 +40,13 @@ func isWrong(i api.Ins) bool {
 	return uir.Right(i, 0, 0) == api.ErrIns
 }
 
-// refuse keeps a fault at the next word; behind the last one there is but one.
-func (r *reader) refuse(e api.Errno) {
-	if r.e != api.OK {
-		return
-	}
-	if r.words.Left() == 0 {
-		e = api.ErrEnd
-	}
-	r.e, r.at = e, r.words.At()
-}
-
 // instruction reads the name, then the operands, by those rows of that name
 // that the words have not ruled out.
 func (r *reader) instruction() api.Ins {
 	rows := r.named()
 	for k := 0; len(rows) > 0 && k < len(rows[0].Parts); k++ {
 		if k > 0 {
-			r.mark(",")
+			r.Mark(",")
 		}
 		rows = r.beginning(rows, k)
 		if len(rows) > 0 {
@@ -77,9 +61,9 @@ func (r *reader) instruction() api.Ins {
 
 // named is the rows of the name that comes next.
 func (r *reader) named() []Row {
-	word, _ := r.words.Peek()
+	word, _ := r.Peek()
 	if word.Kind != api.TokName {
-		r.refuse(api.ErrForm)
+		r.Refuse(api.ErrForm)
 		return nil
 	}
 	var rows []Row
@@ -90,19 +74,19 @@ func (r *reader) named() []Row {
 		}
 	}
 	if len(rows) == 0 {
-		r.refuse(api.ErrWord)
+		r.Refuse(api.ErrWord)
 	}
-	r.words.Next()
+	r.Next()
 	return rows
 }
 
 // beginning is those of the rows whose part k may begin with the next word.
 func (r *reader) beginning(rows []Row, k int) []Row {
-	word, _ := r.words.Peek()
+	word, _ := r.Peek()
 	fault := misfit(rows, k, word)
 	left := slices.DeleteFunc(rows, func(row Row) bool { return !r.begins(row, k, word) })
 	if len(left) == 0 {
-		r.refuse(fault)
+		r.Refuse(fault)
 	}
 	return left
 }
@@ -155,82 +139,49 @@ func (r *reader) part(part Part) {
 	case Mem:
 		r.mem()
 	case Label:
-		r.label, _ = r.words.Name()
+		r.label, _ = r.Name()
 	case Pred:
 		r.ins.Pred = r.fenced()
 	case Succ:
 		r.ins.Succ = r.fenced()
 	case Word:
-		r.words.Next()
+		r.Next()
 	}
 }
 
 func (r *reader) imm() int {
 	if r.lang.ImmMark != "" {
-		r.mark(r.lang.ImmMark)
+		r.Mark(r.lang.ImmMark)
 	}
-	return r.num()
+	return r.Num()
 }
 
 // mem reads a MEM. No number may stand behind the register.
 func (r *reader) mem() {
-	r.mark("[")
-	r.ins.Loc = r.known(locNames()...)
+	r.Mark("[")
+	r.ins.Loc = r.Known(LocNames()...)
 	r.ins.Index = none
-	more := r.words.Take("+")
+	more := r.Take("+")
 	if more && r.isNumber() {
-		r.ins.Off, _ = r.words.Number()
-		more = r.words.Take("+")
+		r.ins.Off, _ = r.Number()
+		more = r.Take("+")
 	}
 	if more {
 		r.ins.Index = r.reg()
 	}
-	r.mark("]")
+	r.Mark("]")
 }
 
 func (r *reader) isNumber() bool {
-	word, _ := r.words.Peek()
+	word, _ := r.Peek()
 	return word.Kind == api.TokNumber
 }
 
-// num reads a NUM. If it is none, the fault lies behind its `-`.
-func (r *reader) num() int {
-	n, ok := r.words.Number()
-	if !ok {
-		r.words.Take(minus)
-		r.refuse(api.ErrForm)
-	}
-	return n
-}
-
 func (r *reader) reg() int {
-	return r.known(r.lang.Regs[:]...)
+	return r.Known(r.lang.Regs[:]...)
 }
 
 // fenced reads a P. FenceR is 1, FenceW 2, both are 3.
 func (r *reader) fenced() int {
-	return r.known(r.lang.Fences[:]...) + 1
-}
-
-// mark asks for a mark.
-func (r *reader) mark(text string) {
-	if !r.words.Take(text) {
-		r.refuse(api.ErrForm)
-	}
-}
-
-// known asks for one of these names: which one it is.
-func (r *reader) known(names ...string) int {
-	word, _ := r.words.Peek()
-	if word.Kind != api.TokName {
-		r.refuse(api.ErrForm)
-		return none
-	}
-	n := slices.Index(names, word.Text)
-	if n < 0 {
-		r.refuse(api.ErrWord)
-		return none
-	}
-	r.words.Next()
-	return n
+	return r.Known(r.lang.Fences[:]...) + 1
 }

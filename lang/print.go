@@ -79,7 +79,7 @@ func (l Language) operand(row Row, part Part, i api.Ins, label string) string {
 }
 
 func (l Language) mem(i api.Ins) string {
-	text := "[" + locNames()[i.Loc]
+	text := "[" + LocNames()[i.Loc]
 	if i.Off != 0 {
 		text += "+" + strconv.Itoa(i.Off)
 	}
