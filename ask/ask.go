@@ -33,13 +33,17 @@ func (r *Reader) Fault() (api.Errno, int) {
 
 // Refuse keeps a fault at the next word; behind the last one there is but one.
 func (r *Reader) Refuse(e api.Errno) {
-	if r.e != api.OK {
-		return
-	}
 	if r.Left() == 0 {
 		e = api.ErrEnd
 	}
-	r.e, r.at = e, r.At()
+	r.RefuseAt(e, r.At())
+}
+
+// RefuseAt keeps a fault at a place.
+func (r *Reader) RefuseAt(e api.Errno, at int) {
+	if r.e == api.OK {
+		r.e, r.at = e, at
+	}
 }
 
 // End asks for no word more.
@@ -49,7 +53,7 @@ func (r *Reader) End() {
 	}
 }
 
-// Mark asks for a mark.
+// Mark asks for a mark, or for a name in whose place no other may stand.
 func (r *Reader) Mark(text string) {
 	if !r.Take(text) {
 		r.Refuse(api.ErrForm)

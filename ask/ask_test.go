@@ -118,3 +118,32 @@ func TestFirstFault(t *testing.T) {
 	r.Refuse(api.ErrForm)
 	is(t, r, api.ErrWord, 2, 0)
 }
+
+// A fault at a place of its own: that place stays, behind the last word too.
+func TestRefuseAt(t *testing.T) {
+	r := over(t, "a b c")
+	r.Next()
+	r.RefuseAt(api.ErrTwice, 0)
+	is(t, r, api.ErrTwice, 0, 2)
+	r.RefuseAt(api.ErrLabel, 4)
+	r.Refuse(api.ErrForm)
+	is(t, r, api.ErrTwice, 0, 2)
+	r = over(t, "a")
+	r.Next()
+	r.RefuseAt(api.ErrTwice, 7)
+	is(t, r, api.ErrTwice, 7, 0)
+	r = over(t, "a")
+	r.Refuse(api.ErrWord)
+	r.RefuseAt(api.ErrTwice, 7)
+	is(t, r, api.ErrWord, 0, 1)
+}
+
+// A name that must stand there is asked for as a mark is.
+func TestMarkName(t *testing.T) {
+	r := over(t, "exists P0 P1")
+	r.Mark("exists")
+	r.Mark("P0")
+	is(t, r, api.OK, 0, 1)
+	r.Mark("P0")
+	is(t, r, api.ErrForm, 10, 1)
+}

@@ -69,27 +69,10 @@ func (r *reader) begun() {
 
 // leaf reads a register's or a location's value.
 func (r *reader) leaf() {
-	c := api.Cond{Kind: api.CondLoc}
-	if word, _ := r.Peek(); word.Kind == api.TokNumber {
-		c.Kind = api.CondReg
-		c.Thread = r.thread(word.N)
-		r.Mark(":")
-		c.Reg = r.Known(r.regs...)
-	} else {
-		c.Loc = r.Known(lang.LocNames()...)
-	}
+	c := lang.Holder(r.Reader, r.regs)
 	r.Mark("=")
 	c.Value = r.Num()
 	r.nodes = append(r.nodes, c)
-}
-
-// thread goes past a number, which must be a thread's.
-func (r *reader) thread(n int) int {
-	if !isBelow(n, api.MaxThreads) {
-		r.Refuse(api.ErrForm)
-	}
-	r.Next()
-	return n
 }
 
 // ended goes past the brackets that end here; one that none was opened for is

@@ -3,6 +3,7 @@ package cond
 import (
 	"belated/api"
 	"belated/arm"
+	"belated/lang"
 	"belated/riscv"
 	"belated/x86"
 )
@@ -21,19 +22,11 @@ const (
 func regNames(arch int) []string {
 	switch arch {
 	case api.X86:
-		return allNames(x86.Name)
+		return lang.RegNames(x86.Name)
 	case api.RISCV:
-		return allNames(riscv.Name)
+		return lang.RegNames(riscv.Name)
 	case api.ARM:
-		return allNames(arm.Name)
+		return lang.RegNames(arm.Name)
 	}
 	return nil
-}
-
-func allNames(name func(reg int) string) []string {
-	var names []string
-	for reg := range api.MaxRegs {
-		names = append(names, name(reg))
-	}
-	return names
 }

@@ -64,11 +64,6 @@ func (r Registers) Name(reg int) string {
 	return r[reg]
 }
 
-// LocNames is the names of the locations, by number.
-func LocNames() []string {
-	return []string{"x", "y", "z"}
-}
-
 // sizeOf is the Size that a name tells (0, if it tells none); false, if it is
 // not the row's name.
 func (l Language) sizeOf(row Row, name string) (int, bool) {

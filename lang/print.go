@@ -5,7 +5,6 @@ import (
 	"strings"
 
 	"belated/api"
-	"belated/scan"
 )
 
 // Print writes an instruction, a branch with that label.
@@ -17,7 +16,7 @@ func (l Language) Print(i api.Ins, label string) (string, api.Errno) {
 	if !ok {
 		return "", api.ErrArch
 	}
-	if i.Op == api.OpBranch && !isName(label) {
+	if i.Op == api.OpBranch && !IsName(label) {
 		return "", api.ErrLabel
 	}
 	name := l.nameOf(row, i.Size)
@@ -50,12 +49,6 @@ func (row Row) shows(i api.Ins) bool {
 		}
 	}
 	return true
-}
-
-// isName tells whether a text is one name, and nothing about it.
-func isName(text string) bool {
-	words, e, _ := scan.Tokens(text)
-	return e == api.OK && len(words) == 1 && words[0].Kind == api.TokName && words[0].Text == text
 }
 
 // operand is a row's part of a right instruction as text.
