@@ -203,11 +203,11 @@ func theRun(t *testing.T, x api.Test, want string) api.Run {
 }
 
 // dice draws the same numbers at each run.
-type dice uint32
+type dice uint64
 
 func (d *dice) below(n int) int {
-	*d = *d*1664525 + 1013904223
-	return int(uint32(*d)>>8) % n
+	*d = *d*6364136223846793005 + 1442695040888963407
+	return int(uint64(*d)>>33) % n
 }
 
 func (d *dice) among(l []int) int { return l[d.below(len(l))] }

@@ -369,7 +369,7 @@ func TestManyWalks(t *testing.T) {
 			t.Errorf("drawn too thin: %d of operation %d were performed", n, op)
 		}
 	}
-	if slices.Min(c.threads[1:]) < 1000 || slices.Min(c.ways[:3]) < 100 || slices.Min(c.alone[:]) < 500 || c.fns[api.FnAdd] < 500 || c.fns[api.FnSwap] < 500 || c.done < 3000 || c.handed < 500 || c.both < 5 {
+	if slices.Min(c.threads[1:]) < 1000 || slices.Min(c.ways[:3]) < 50 || slices.Min(c.alone[:]) < 500 || c.fns[api.FnAdd] < 500 || c.fns[api.FnSwap] < 500 || c.done < 3000 || c.handed < 500 || c.both < 5 {
 		t.Errorf("drawn too thin: %+v", c)
 	}
 	for _, size := range sizes {

@@ -182,13 +182,14 @@ func TestFenced(t *testing.T) {
 }
 
 // fenced is a tight test with fences behind those memory operations of which is
-// says so.
+// says so, and that have none there.
 func fenced(x api.Test, is func() bool) api.Test {
 	codes := make([]code, len(x.Code))
 	for thread, c := range x.Code {
-		for _, i := range c {
+		for at, i := range c {
 			codes[thread] = append(codes[thread], i)
-			if i.Op != api.OpFence && is() {
+			has := i.Op == api.OpFence || at+1 < len(c) && c[at+1].Op == api.OpFence
+			if !has && is() {
 				codes[thread] = append(codes[thread], fence(3, 3))
 			}
 		}
